@@ -1,0 +1,1 @@
+"""Stayswap: guests whose stays share a day exchange their leaving days."""

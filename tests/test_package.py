@@ -1,0 +1,71 @@
+"""The interface, and the rules of the language that are easily broken without notice."""
+
+import ast
+import importlib
+import inspect
+import pathlib
+import unittest
+
+FOLDER = pathlib.Path(__file__).resolve().parent.parent / "stayswap"
+
+INTERFACE = {
+    "stays": {
+        "is_stays": ["value"],
+        "nights": ["stays"],
+        "guests_on": ["stays", "day"],
+        "order_of": ["stays"],
+        "share_day": ["stays", "one", "other"],
+    },
+    "exchanging": {
+        "exchanges": ["stays"],
+        "exchanged": ["stays", "one", "other"],
+        "run": ["stays", "pairs"],
+    },
+}
+
+
+def sources():
+    return [(path.name, path.read_text("utf-8")) for path in sorted(FOLDER.glob("*.py"))]
+
+
+class InterfaceTest(unittest.TestCase):
+
+    def test_functions_and_their_arguments(self):
+        for module, functions in INTERFACE.items():
+            for name, arguments in functions.items():
+                with self.subTest(module=module, name=name):
+                    function = getattr(importlib.import_module("stayswap." + module), name)
+                    self.assertEqual(list(inspect.signature(function).parameters), arguments)
+                    self.assertEqual(function.__module__, "stayswap." + module)
+
+
+class LanguageTest(unittest.TestCase):
+
+    def test_only_python_files(self):
+        found = [path.name for path in FOLDER.iterdir() if path.name != "__pycache__"]
+        self.assertEqual(sorted(found), [name for name, _ in sources()])
+        self.assertIn("__init__.py", found)
+
+    def test_characters_and_sizes(self):
+        for name, text in sources():
+            with self.subTest(name=name):
+                self.assertTrue(all(" " <= sign <= "~" or sign == "\n" for sign in text))
+                lines = text.split("\n")
+                self.assertLessEqual(len(lines), 399)
+                self.assertLessEqual(max(map(len, lines)), 120)
+                for node in ast.walk(ast.parse(text)):
+                    if isinstance(node, ast.FunctionDef):
+                        self.assertLessEqual(node.end_lineno - node.lineno + 1, 40)
+
+    def test_imports(self):
+        for name, text in sources():
+            for node in ast.walk(ast.parse(text)):
+                with self.subTest(name=name):
+                    self.assertNotIsInstance(node, ast.Import)
+                    if isinstance(node, ast.ImportFrom):
+                        allowed = ("stayswap.", "heapq", "math", "itertools")
+                        self.assertTrue(node.module.startswith(allowed))
+
+
+if __name__ == "__main__":
+    unittest.main()
