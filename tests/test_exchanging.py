@@ -5,10 +5,7 @@ import unittest
 from stayswap.errors import Apart, NoGuest
 from stayswap.exchanging import exchanged, exchanges, run
 from stayswap.stays import is_stays, share_day
-from tests.helper import AWAY, FAR, TRIO, Case, forms, small_stays
-
-# All twelve are there on day 20.
-DOZEN = tuple((guest, 20 + guest) for guest in range(12))
+from tests.helper import AWAY, DOZEN, FAR, TRIO, Case, forms, small_stays
 
 
 def common_days(stays, one, other):

@@ -21,6 +21,38 @@ INTERFACE = {
         "exchanged": ["stays", "one", "other"],
         "run": ["stays", "pairs"],
     },
+    "leading": {
+        "leads": ["one", "other"],
+        "bar": ["one", "other"],
+        "rings": ["one", "other"],
+        "distance": ["one", "other"],
+        "nearer": ["one", "other"],
+        "shortest": ["one", "other"],
+        "is_way": ["one", "other", "value"],
+    },
+    "histories": {
+        "mates_of": ["stays", "guest"],
+        "history": ["one", "other"],
+        "is_history": ["stays", "value"],
+        "after": ["stays", "history"],
+    },
+    "counting": {
+        "options": ["stays"],
+        "lot_many": ["stays"],
+        "stays_at": ["stays", "number"],
+        "number_of": ["stays", "other"],
+        "spheres": ["stays"],
+        "farthest": ["stays"],
+        "mean_distance": ["stays"],
+        "obstacle": ["arrivals", "days"],
+        "first_stays": ["arrivals", "days"],
+    },
+    "chances": {
+        "leaving_chances": ["stays", "guest"],
+        "mean_nights": ["stays", "guest"],
+        "meeting_chance": ["stays", "one", "other"],
+        "sure_meetings": ["stays"],
+    },
 }
 
 
