@@ -26,7 +26,7 @@ def lot_many(stays):
     return many
 
 
-def _fits_many(arrivals, days):
+def fits_many(arrivals, days):
     """Return in how many ways these guests can take these days, one each and none too early."""
     many = 1
     # The later a guest comes, the fewer days are possible, and those who come even later have
@@ -44,7 +44,7 @@ def days_with_ways(arrivals, days, guest):
     others = arrivals[:guest] + arrivals[guest + 1:]
     found = []
     for day in sorted(days):
-        ways = _fits_many(others, [left for left in days if left != day])
+        ways = fits_many(others, [left for left in days if left != day])
         if day >= arrivals[guest] and ways > 0:
             found.append((day, ways))
     return found
@@ -59,7 +59,8 @@ def _day_with_number(choices, number):
     return choices[at][0], number
 
 
-def _stays_with_number(arrivals, days, number):
+def stays_with_number(arrivals, days, number):
+    """Return the stays with this number among those with these arrivals and leaving days."""
     found = []
     while arrivals:
         day, number = _day_with_number(days_with_ways(arrivals, days, 0), number)
@@ -73,7 +74,7 @@ def stays_at(stays, number):
     """Return the stays of the lot with this number, in ascending order."""
     if not 0 <= number < lot_many(stays):
         raise NoNumber(number)
-    return _stays_with_number(arrivals_of(stays), days_of(stays), number)
+    return stays_with_number(arrivals_of(stays), days_of(stays), number)
 
 
 def number_of(stays, other):
@@ -128,4 +129,4 @@ def first_stays(arrivals, days):
     day = obstacle(arrivals, days)
     if day is not None:
         raise Obstacle(day)
-    return _stays_with_number(arrivals, days, 0)
+    return stays_with_number(arrivals, days, 0)

@@ -1,6 +1,7 @@
 """What the tests of several modules share."""
 
 import fractions
+import functools
 import itertools
 import unittest
 
@@ -21,6 +22,14 @@ DISTANT = ((FAR, FAR + 4), (5, FAR + 1), (FAR - 1, FAR), (5, FAR - 1), (FAR, FAR
 # Twelve with equal arrivals, great days, and gaps.
 MIXED = ((7, 30), (FAR, FAR + 9), (0, 8), (7, 11), (12, 40), (3, 9), (FAR - 5, FAR), (20, 21),
          (7, 25), (45, FAR + 1), (0, 2), (FAR, FAR + 3))
+
+# Of at most 300 stays, 288 are the most in a lot; the next lot has 324 (a guest has at most one
+# mate more than the guest before: five options mean two, three and four options of others).
+LOT_288 = ((10, 41), (20, 51), (30, 52), (40, 73), (50, 74), (60, 75))
+LOT_324 = ((10, 31), (20, 41), (30, 51), (40, 61), (50, 62), (60, 85), (70, 86))
+# Twelve guests, 288 stays: the last five have all the choices, or the first ones.
+LATE_288 = NEVER[:6] + tuple((arrival + 60, leaving + 60) for arrival, leaving in LOT_288)
+SOON_288 = LOT_288 + tuple((arrival + 80, leaving + 80) for arrival, leaving in NEVER[:6])
 
 # Stays with small lots.
 LOTS = [(), ((3, 3),), ((0, FAR),), TRIO, AWAY, TOGETHER, DISTANT, CHAIN[:6], NEVER[:4], DOZEN[:4],
@@ -109,6 +118,18 @@ def search(stays):
                 found[reached] = found[present] + 1
                 waiting.append(reached)
     return found
+
+
+def ways(arrivals, days):
+    """In how many ways guests with these arrivals can take these days; by sets of days."""
+    @functools.lru_cache(None)
+    def many(at, taken):
+        if at == len(arrivals):
+            return 1
+        return sum(many(at + 1, taken | 1 << k) for k, day in enumerate(days)
+                   if day >= arrivals[at] and not taken >> k & 1)
+
+    return many(0, 0)
 
 
 def ratio(numerator, denominator):

@@ -53,6 +53,23 @@ INTERFACE = {
         "meeting_chance": ["stays", "one", "other"],
         "sure_meetings": ["stays"],
     },
+    "wishes": {
+        "meets": ["stays", "wish"],
+        "wish_many": ["stays", "wish"],
+        "wish_at": ["stays", "wish", "number"],
+        "nearest": ["stays", "wish"],
+    },
+    "lengths": {
+        "first_out": ["stays"],
+        "last_out": ["stays"],
+        "squares": ["stays"],
+        "square_range": ["stays"],
+        "longest_range": ["stays"],
+        "shortest_range": ["stays"],
+        "crossings": ["stays"],
+        "meetings": ["stays"],
+        "crossing_counts": ["stays"],
+    },
 }
 
 
