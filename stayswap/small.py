@@ -1,8 +1,24 @@
 """Small lots: the only place where stays are gone through one by one."""
 
-from stayswap.counting import days_with_ways
+from stayswap.counting import days_with_ways, lot_many
+from stayswap.errors import TooMany
+from stayswap.exchanging import exchanged, exchanges
 from stayswap.granting import granted, left_arrivals, left_days
-from stayswap.leading import days_of, distance
+from stayswap.leading import arrivals_of, check_leads, days_of, distance
+from stayswap.most import MOST
+from stayswap.stays import as_tuples
+
+
+def all_stays(stays):
+    """Return the ascending list of the stays of the lot."""
+    _check_small(stays)
+    return all_taking(arrivals_of(stays), days_of(stays))
+
+
+def _check_small(stays):
+    many = lot_many(stays)
+    if many > MOST:
+        raise TooMany(many)
 
 
 def all_taking(arrivals, days):
@@ -30,3 +46,23 @@ def nearest_meeting(stays, wish):
     found = [granted(stays, wish, days_of(part)) for part in taken]
     # They ascend, and of several that are as near, min takes the first one.
     return min(found, key=lambda other: distance(stays, other))
+
+
+def ways_many(one, other):
+    """Return how many lists of exchanges, as few as possible, turn one into other."""
+    check_leads(one, other)
+    _check_small(one)
+    ways = {as_tuples(one): 1}
+    for _ in range(distance(one, other)):
+        ways = _ways_with_next(ways)
+    return ways[as_tuples(other)]
+
+
+def _ways_with_next(ways):
+    """Return in how many ways each stays are reached with one exchange more than in ways."""
+    found = {}
+    for stays, many in ways.items():
+        for guest, mate in exchanges(stays):
+            reached = exchanged(stays, guest, mate)
+            found[reached] = found.get(reached, 0) + many
+    return found

@@ -6,6 +6,9 @@ import inspect
 import pathlib
 import unittest
 
+from stayswap.hotel import Hotel
+from stayswap.most import MOST
+
 FOLDER = pathlib.Path(__file__).resolve().parent.parent / "stayswap"
 
 INTERFACE = {
@@ -70,6 +73,45 @@ INTERFACE = {
         "meetings": ["stays"],
         "crossing_counts": ["stays"],
     },
+    "small": {
+        "all_stays": ["stays"],
+        "ways_many": ["one", "other"],
+    },
+    "texts": {
+        "stays_text": ["stays"],
+        "pairs_text": ["pairs"],
+        "wish_text": ["wish"],
+        "stays_in": ["text"],
+        "pairs_in": ["text"],
+        "wish_in": ["text"],
+    },
+    "desk": {
+        "answers": ["text"],
+    },
+}
+
+# The methods of Hotel.
+METHODS = {
+    "__init__": ["self", "stays"],
+    "exchange": ["self", "one", "other"],
+    "run": ["self", "pairs"],
+    "go": ["self", "goal"],
+    "come": ["self", "arrival", "leaving"],
+    "strike": ["self", "guest"],
+    "prolong": ["self", "guest", "day"],
+    "undo": ["self"],
+    "do": ["self", "deeds", "whole"],
+    "stays": ["self"],
+    "lot": ["self"],
+    "exchanges": ["self"],
+    "on": ["self", "day"],
+    "deeds": ["self"],
+    "as_of": ["self", "many"],
+    "twin": ["self"],
+    "log": ["self"],
+    "__len__": ["self"],
+    "__eq__": ["self", "other"],
+    "__repr__": ["self"],
 }
 
 
@@ -86,6 +128,21 @@ class InterfaceTest(unittest.TestCase):
                     function = getattr(importlib.import_module("stayswap." + module), name)
                     self.assertEqual(list(inspect.signature(function).parameters), arguments)
                     self.assertEqual(function.__module__, "stayswap." + module)
+
+
+    def test_methods_of_hotel(self):
+        self.assertEqual(Hotel.__module__, "stayswap.hotel")
+        self.assertEqual(Hotel.__bases__, (object,))
+        for name, arguments in METHODS.items():
+            with self.subTest(name=name):
+                self.assertIn(name, vars(Hotel))
+                self.assertEqual(list(inspect.signature(vars(Hotel)[name]).parameters), arguments)
+        self.assertEqual(inspect.signature(Hotel).parameters["stays"].default, ())
+        whole = inspect.signature(Hotel.do).parameters["whole"]
+        self.assertEqual([whole.kind, whole.default], [whole.KEYWORD_ONLY, True])
+
+    def test_most(self):
+        self.assertEqual(repr(MOST), "300")
 
 
 class LanguageTest(unittest.TestCase):
